@@ -1,1 +1,1 @@
-"""Days and limits: calendars of lands, and the days on which their offices are open."""
+"""Days and limits: calendars of lands, when limits end there, and which acts were in time."""

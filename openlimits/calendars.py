@@ -12,6 +12,8 @@ class Calendar:
         self.opened_days = {}
         # Kept by year, for one call may ask for hundreds of days of it; the sentences are all there by then.
         self.closings = {}
+        # Kept by the day asked from, for one limit may pass hundreds of open days, and be begun on hundreds of days.
+        self.next_opens = {}
 
     def is_rest(self, day):
         return weekday_of(day) in self.rest_weekdays
@@ -51,9 +53,12 @@ class Calendar:
         return year > FIRST_YEAR and day in self.closed_for_feasts(year - 1)
 
     def first_open_day(self, day):
-        while self.is_closed(day):
-            day += 1
-        return day
+        if day not in self.next_opens:
+            found = day
+            while self.is_closed(found):
+                found += 1
+            self.next_opens[day] = found
+        return self.next_opens[day]
 
     # None where all days down to day 0 are closed.
     def last_open_day(self, day):

@@ -3,6 +3,7 @@
 FIRST_YEAR = 2000
 LAST_TOLD_YEAR = 2399
 LAST_TOLD_DAY = 146096
+LAST_RECKONED_DAY = 182621
 A_LEAP_YEAR = 2000
 MONTH_LENGTHS = (31, 28, 31, 30, 31, 30, 31, 31, 30, 31, 30, 31)
 
@@ -47,6 +48,19 @@ def date_of(day):
         left -= month_length(year, month)
         month += 1
     return (year, month, left + 1)
+
+
+def months_later(day, count):
+    told = date_of(day)
+    months = 12 * told[0] + told[1] - 1 + count
+    year = months // 12
+    month = months % 12 + 1
+    return day_of(year, month, min(told[2], month_length(year, month)))
+
+
+def month_end(day):
+    told = date_of(day)
+    return day + month_length(told[0], told[1]) - told[2]
 
 
 def weekday_of(day):

@@ -1,8 +1,10 @@
 """The calls that ask for dates alone, and the ranges of days and years that all calls share."""
 
 from openlimits.dates import FIRST_YEAR, LAST_TOLD_DAY, LAST_TOLD_YEAR
-from openlimits.dates import date_of, day_of, month_length, moon_sunday, weekday_of
-from openlimits.refusals import NoSuchDay, within
+from openlimits.dates import date_of, day_of, month_length, months_later, moon_sunday, weekday_of
+from openlimits.refusals import NoSuchDay, reckoned, within
+
+MOST_MONTHS = 1200
 
 
 def told_day(number):
@@ -36,4 +38,9 @@ def call_easter(office, numbers):
     return [moon_sunday(told_year(numbers[0]))]
 
 
-DAY_CALLS = {0: call_date, 1: call_day, 2: call_easter}
+def call_months(office, numbers):
+    day = told_day(numbers[0])
+    return [reckoned(months_later(day, within(numbers[1], 0, MOST_MONTHS)))]
+
+
+DAY_CALLS = {0: call_date, 1: call_day, 2: call_easter, 27: call_months}

@@ -1,4 +1,6 @@
-"""The refusals, one error class for each, and the check that most calls begin with."""
+"""The refusals, one error class for each, and the checks that many calls share."""
+
+from openlimits.dates import LAST_RECKONED_DAY
 
 
 class OutOfRange(ValueError):
@@ -21,7 +23,21 @@ class NotRight(ValueError):
     pass
 
 
+class NoLimit(ValueError):
+    pass
+
+
+class NoEnd(ValueError):
+    pass
+
+
 def within(number, low, high):
     if number < low or number > high:
         raise OutOfRange()
     return number
+
+
+def reckoned(day):
+    if day > LAST_RECKONED_DAY:
+        raise NoEnd()
+    return day

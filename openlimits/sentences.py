@@ -4,8 +4,8 @@ from openlimits.calendars import Calendar
 from openlimits.dates import A_LEAP_YEAR, FIRST_YEAR, LAST_TOLD_YEAR, day_of, month_length
 from openlimits.feasts import DateRule, EasterRule, Feast, FromRule, KthRule, LastRule
 from openlimits.refusals import NotRight
+from openlimits.texts import as_text, read_number
 
-SIGNS = " +-/0123456789;abcdefghijklmnopqrstuvwxyz"
 WEEKDAYS = ("mon", "tue", "wed", "thu", "fri", "sat", "sun")
 MOST_SENTENCES = 20
 FARTHEST_FROM_EASTER = 80
@@ -23,16 +23,6 @@ def read_calendar(codes):
     if len(calendar.rest_weekdays) == 7:
         raise NotRight()
     return calendar
-
-
-def as_text(codes):
-    known = {}
-    for sign in SIGNS:
-        known[ord(sign)] = sign
-    for code in codes:
-        if code not in known:
-            raise NotRight()
-    return "".join([known[code] for code in codes])
 
 
 def add_sentence(calendar, words):
@@ -121,12 +111,3 @@ def split_into(word, sign, count):
     if len(parts) != count:
         raise NotRight()
     return parts
-
-
-def read_number(word, low, high):
-    if not word.isdigit() or word.startswith("0"):
-        raise NotRight()
-    number = int(word)
-    if number < low or number > high:
-        raise NotRight()
-    return number

@@ -1,8 +1,9 @@
 """The calls on the stretches on which time stands still."""
 
+from openlimits.dates import LAST_TOLD_DAY
 from openlimits.daycalls import told_day, told_day_behind
 from openlimits.refusals import TooMany
-from openlimits.stretches import with_go, with_stop
+from openlimits.stretches import count_still, with_go, with_stop
 
 MOST_STRETCHES = 12
 LONGEST_CHANGE = 4000
@@ -34,4 +35,10 @@ def call_stops(office, numbers):
     return answer
 
 
-STILL_CALLS = {11: call_stop, 12: call_go, 13: call_stops}
+def call_still(office, numbers):
+    first = told_day(numbers[0])
+    last = told_day_behind(numbers[1], first, LAST_TOLD_DAY)
+    return [count_still(office.stretches, first, last)]
+
+
+STILL_CALLS = {11: call_stop, 12: call_go, 13: call_stops, 14: call_still}

@@ -24,3 +24,19 @@ def with_go(stretches, first, last):
         if stretch[1] > last:
             kept.append((max(stretch[0], last + 1), stretch[1]))
     return kept
+
+
+def count_still(stretches, first, last):
+    count = 0
+    for stretch in stretches:
+        count += max(0, min(stretch[1], last) - max(stretch[0], first) + 1)
+    return count
+
+
+# Days up to the first one count for nothing. The end is put off by one stretch after another, in order, for what
+# one puts it off may bring the next within reach.
+def made_good(stretches, first, end):
+    for stretch in stretches:
+        if stretch[0] <= end:
+            end += max(0, stretch[1] - max(stretch[0] - 1, first))
+    return end

@@ -5,9 +5,11 @@ import datetime
 from openlimits.offices import answers
 
 NAMES = ("date", "day", "easter", "land", "landtext", "closed", "next", "last", "opens", "kth", "feasts",
-         "stop", "go", "stops")
+         "stop", "go", "stops", "still", "limit", "limittext", "end", "latest", "same", "never", "act", "acts", "met",
+         "anywhere", "clock", "ends", "months")
 EPOCH = datetime.date(2000, 1, 1).toordinal()
 LAST_DAY = 146096
+LAST_RECKONED = 182621
 LOWEST = -9223372036854775808
 HIGHEST = 9223372036854775807
 
@@ -56,6 +58,14 @@ def ask_land(text, *calls):
     if found[0][0] < 0:
         raise AssertionError(f"refused: {text}")
     return found[1:]
+
+
+def ask_limits(texts, *calls):
+    """The answers to calls once the limits are told, in the places from 0 on."""
+    found = ask(*[("limit", place, text) for place, text in enumerate(texts)], *calls)
+    if found[:len(texts)] != [[0]] * len(texts):
+        raise AssertionError(f"refused: {texts}")
+    return found[len(texts):]
 
 
 def one(*call):

@@ -1,6 +1,6 @@
 import unittest
 
-from tests.helper import LAST_DAY, ask, date, day, gauss_sunday, one
+from tests.helper import LAST_DAY, LAST_RECKONED, ask, date, day, gauss_sunday, one
 
 
 class DateTest(unittest.TestCase):
@@ -97,6 +97,56 @@ class EasterTest(unittest.TestCase):
     def test_out_of_range(self):
         self.assertEqual(one("easter", 1999), [-1])
         self.assertEqual(one("easter", 2400), [-1])
+
+
+class MonthsTest(unittest.TestCase):
+    def test_the_example(self):
+        self.assertEqual(one("months", 8796, 1), [8825])
+
+    def test_no_months_later(self):
+        self.assertEqual(ask(*[("months", number, 0) for number in (0, 59, 8825, LAST_DAY)]), [[0], [59], [8825], [LAST_DAY]])
+
+    def test_the_same_day_of_a_later_month(self):
+        for count, year, month in ((1, 2023, 4), (9, 2023, 12), (10, 2024, 1), (12, 2024, 3), (21, 2024, 12), (22, 2025, 1),
+                                   (100, 2031, 7), (1199, 2123, 2), (1200, 2123, 3)):
+            self.assertEqual(one("months", day(2023, 3, 15), count), [day(year, month, 15)])
+
+    def test_from_december_and_to_december(self):
+        self.assertEqual(one("months", day(2023, 12, 31), 1), [day(2024, 1, 31)])
+        self.assertEqual(one("months", day(2023, 12, 31), 12), [day(2024, 12, 31)])
+        self.assertEqual(one("months", day(2023, 11, 30), 1), [day(2023, 12, 30)])
+
+    def test_from_the_last_days_of_a_month(self):
+        for year, last in ((2023, 28), (2024, 29), (2000, 29), (2100, 28), (2200, 28), (2300, 28), (2396, 29)):
+            for number in (27, 28, 29, 30, 31):
+                self.assertEqual(one("months", day(year, 1, number), 1), [day(year, 2, min(number, last))])
+                self.assertEqual(one("months", day(year, 1, number), 2), [day(year, 3, number)])
+            self.assertEqual(one("months", day(year, 2, last), 1), [day(year, 3, last)])
+        for month in (3, 5, 8, 10):
+            self.assertEqual(one("months", day(2024, month, 31), 1), [day(2024, month + 1, 30)])
+            self.assertEqual(one("months", day(2024, month + 1, 30), 1), [day(2024, month + 2, 30)])
+
+    def test_years_from_february_29(self):
+        for count, year, number in ((12, 2025, 28), (24, 2026, 28), (48, 2028, 29), (912, 2100, 28), (960, 2104, 29)):
+            self.assertEqual(one("months", day(2024, 2, 29), count), [day(year, 2, number)])
+
+    def test_up_to_the_last_day_reckoned(self):
+        self.assertEqual(one("months", LAST_DAY, 1200), [LAST_RECKONED])
+        self.assertEqual(one("months", LAST_DAY - 1, 1200), [LAST_RECKONED - 1])
+        self.assertEqual(one("months", LAST_DAY, 1), [LAST_DAY + 31])
+        self.assertEqual(one("months", day(2396, 2, 29), 1200), [day(2496, 2, 29)])
+
+    def test_every_count_from_a_month_s_last_day(self):
+        told = date(day(2023, 10, 31))
+        found = ask(*[("months", day(2023, 10, 31), count) for count in range(400)])
+        for count, answer in enumerate(found):
+            later = date(answer[0])
+            self.assertEqual(12 * (later.year - told.year) + later.month - told.month, count)
+            self.assertTrue(later.day == 31 or date(answer[0] + 1).day == 1)
+
+    def test_out_of_range(self):
+        for wrong in ((-1, 0), (LAST_DAY + 1, 0), (0, -1), (0, 1201), (LAST_DAY, 1201)):
+            self.assertEqual(one("months", *wrong), [-1])
 
 
 if __name__ == "__main__":

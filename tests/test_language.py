@@ -247,5 +247,79 @@ class FormTest(unittest.TestCase):
                 self.assertIn(node.type.id, classes | {"KeyError", "ZeroDivisionError", "StopIteration"}, place)
 
 
+class UseTest(unittest.TestCase):
+    def nodes_with_parents(self):
+        for path, tree in trees():
+            for parent in ast.walk(tree):
+                for node in ast.iter_child_nodes(parent):
+                    yield f"{path.name}:{getattr(node, 'lineno', 0)}", node, parent
+
+    def is_call_of(self, node, names):
+        return isinstance(node, ast.Call) and isinstance(node.func, ast.Name) and node.func.id in names
+
+    def test_keywords(self):
+        allowed = {"sorted": ("key", "reverse"), "min": ("key", "default"), "max": ("key", "default"), "sum": ("start",),
+                   "enumerate": ("start",), "zip": ("strict",)}
+        for place, node in every_node():
+            if isinstance(node, ast.Call):
+                for keyword in node.keywords:
+                    self.assertIsInstance(node.func, ast.Name, place)
+                    self.assertIn(keyword.arg, allowed.get(node.func.id, ()), place)
+                    if keyword.arg == "key":
+                        self.assertIsInstance(keyword.value, ast.Lambda, place)
+
+    def test_what_is_walked_at_once(self):
+        for place, node, parent in self.nodes_with_parents():
+            method = node.func.attr if isinstance(node, ast.Call) and isinstance(node.func, ast.Attribute) else ""
+            if self.is_call_of(node, ("range", "zip", "enumerate", "reversed")) or method in ("items", "keys", "values"):
+                walked = isinstance(parent, (ast.For, ast.comprehension)) and parent.iter == node
+                first = self.is_call_of(parent, ("list", "tuple", "dict", "sorted", "sum", "any", "all", "enumerate", "zip"))
+                self.assertTrue(walked or (first and parent.args[0] == node), place)
+
+    def test_what_a_loop_walks_is_not_changed_in_it(self):
+        changing = ("append", "clear", "extend", "insert", "pop", "remove", "reverse", "setdefault", "update")
+        for place, node in every_node():
+            if isinstance(node, ast.For):
+                walked = [ast.dump(part) for part in ast.walk(node.iter) if isinstance(part, (ast.Name, ast.Attribute))]
+                for part in [inner for row in node.body for inner in ast.walk(row)]:
+                    if isinstance(part, ast.Call) and isinstance(part.func, ast.Attribute) and part.func.attr in changing:
+                        self.assertNotIn(ast.dump(part.func.value), walked, place)
+                    if isinstance(part, ast.Subscript) and isinstance(part.ctx, ast.Store):
+                        self.assertNotIn(ast.dump(part.value), walked, place)
+
+    def test_python_s_own_are_called_and_not_kept(self):
+        for place, node, parent in self.nodes_with_parents():
+            if isinstance(node, ast.Name) and node.id in BUILTINS and node.id not in OWN_ERRORS:
+                self.assertTrue(isinstance(parent, ast.Call) and parent.func == node, place)
+            if isinstance(node, ast.Attribute) and node.attr in METHODS:
+                self.assertTrue(isinstance(parent, ast.Call) and parent.func == node, place)
+
+    def test_no_sets_and_no_powers(self):
+        for place, node in every_node():
+            self.assertNotIsInstance(node, (ast.Set, ast.SetComp, ast.Pow), place)
+            self.assertFalse(self.is_call_of(node, ("set", "frozenset")), place)
+
+    def test_lists_and_dicts_of_the_top_are_only_read(self):
+        names = {target.id for path, tree in trees() for row in tree.body if isinstance(row, ast.Assign)
+                 and isinstance(row.value, (ast.List, ast.Dict)) for target in row.targets}
+        self.assertIn("LAND_CALLS", names)
+        for place, node, parent in self.nodes_with_parents():
+            if isinstance(node, ast.Name) and node.id in names and isinstance(node.ctx, ast.Load):
+                indexed = isinstance(parent, ast.Subscript) and parent.value == node and isinstance(parent.ctx, ast.Load)
+                asked = isinstance(parent, ast.Compare) and node in parent.comparators
+                self.assertTrue(indexed or asked, place)
+
+    def test_no_two_lambdas_on_one_row(self):
+        rows = [place for place, node in every_node() if isinstance(node, ast.Lambda)]
+        self.assertEqual(len(rows), len(set(rows)))
+
+    def test_classes_are_called_raised_or_taken_alone(self):
+        classes = {node.name for place, node in every_node() if isinstance(node, ast.ClassDef)}
+        for place, node, parent in self.nodes_with_parents():
+            if isinstance(node, ast.Name) and node.id in classes:
+                called = isinstance(parent, ast.Call) and parent.func == node
+                self.assertTrue(called or isinstance(parent, (ast.ExceptHandler, ast.ClassDef)), place)
+
+
 if __name__ == "__main__":
     unittest.main()

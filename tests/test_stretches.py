@@ -140,6 +140,48 @@ class GoTest(unittest.TestCase):
         self.assertEqual(ask(*TWELVE, ("go", 5, 105))[12], [12])
 
 
+class StillTest(unittest.TestCase):
+    def test_no_time_stands_still_before_the_first_call(self):
+        self.assertEqual(ask(("still", 0, 0), ("still", 0, LAST_DAY), ("still", 5, 9)), [[0]] * 3)
+
+    def test_both_days_are_counted(self):
+        found = ask(("stop", 10, 20), *[("still", *days) for days in ((10, 20), (10, 10), (20, 20), (9, 10), (20, 21), (11, 19))])
+        self.assertEqual(found[1:], [[11], [1], [1], [1], [1], [9]])
+
+    def test_days_beside_a_stretch(self):
+        found = ask(("stop", 10, 20), ("still", 0, 9), ("still", 9, 9), ("still", 21, 21), ("still", 21, LAST_DAY))
+        self.assertEqual(found[1:], [[0]] * 4)
+
+    def test_round_a_stretch_and_over_its_ends(self):
+        found = ask(("stop", 10, 20), ("still", 0, 100), ("still", 5, 14), ("still", 15, 40), ("still", 0, LAST_DAY))
+        self.assertEqual(found[1:], [[11], [5], [6], [11]])
+
+    def test_over_several_stretches(self):
+        found = ask(("stop", 50, 60), ("stop", 10, 20), ("stop", 30, 30), ("still", 0, 100), ("still", 15, 55), ("still", 21, 49),
+                    ("still", 20, 30), ("still", 31, 49), ("still", 30, 60))
+        self.assertEqual(found[3:], [[23], [13], [1], [2], [0], [12]])
+
+    def test_twelve_stretches(self):
+        self.assertEqual(ask(*TWELVE, ("still", 0, LAST_DAY), ("still", 5, 1104))[12:], [[120], [110]])
+
+    def test_no_bound_but_the_last_day_told(self):
+        stops = [("stop", first, first + 4000) for first in range(0, 120000, 4001)]
+        found = ask(*stops, ("still", 0, LAST_DAY), ("still", 100, 100000))
+        self.assertEqual(found[-2:], [[4001 * len(stops)], [99901]])
+
+    def test_time_that_goes_on_again(self):
+        self.assertEqual(ask(("stop", 10, 20), ("go", 12, 15), ("still", 0, 30), ("go", 0, 30), ("still", 0, 30))[2::2], [[7], [0]])
+
+    def test_the_first_and_last_day_told(self):
+        found = ask(("stop", 0, 0), ("stop", LAST_DAY, LAST_DAY), ("still", 0, 0), ("still", LAST_DAY, LAST_DAY),
+                    ("still", 0, LAST_DAY), ("still", 1, LAST_DAY - 1))
+        self.assertEqual(found[2:], [[1], [1], [2], [0]])
+
+    def test_out_of_range(self):
+        for wrong in ((-1, 5), (5, 4), (0, -1), (0, LAST_DAY + 1), (LAST_DAY + 1, LAST_DAY + 1), (LAST_DAY, LAST_DAY - 1)):
+            self.assertEqual(one("still", *wrong), [-1])
+
+
 class ManyChangesTest(unittest.TestCase):
     def test_against_a_set_of_days(self):
         source = random.Random(11)
